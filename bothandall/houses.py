@@ -1,16 +1,14 @@
 """Houses: orders in which each two lots have both and all."""
 
 from bothandall.errors import BadHouse, BadLot, BadTable
-from bothandall.kinds import are_integers_below, has_form, is_integer_from
+from bothandall.kinds import are_integers_below, has_form, is_integer_from, is_square
 
 MOST_LOTS = 24
 
 
 def is_table(thing):
     """Whether any value is a table of noughts and ones."""
-    if not isinstance(thing, tuple) or not 1 <= len(thing) <= MOST_LOTS:
-        return False
-    return all(are_integers_below(row, 2) and len(row) == len(thing) for row in thing)
+    return isinstance(thing, tuple) and 1 <= len(thing) <= MOST_LOTS and is_square(thing, len(thing))
 
 
 def is_house(thing):
@@ -54,6 +52,17 @@ def masks_around(table):
 def masks_within(table):
     """For each lot the mask of the lots that are within it."""
     return [mask_of(column) for column in zip(*table)]
+
+
+def shared_lots(masks):
+    """For each two lots the one whose mask is what theirs share; such a lot has to be there."""
+    lots = {mask: lot for lot, mask in enumerate(masks)}
+    return [[lots[one & other] for other in masks] for one in masks]
+
+
+def both_and_all(house):
+    """The pair of what each two lots have both, and of what they have all."""
+    return shared_lots(masks_within(house)), shared_lots(masks_around(house))
 
 
 def fault_of(table):

@@ -24,3 +24,10 @@ def is_ascending(integers):
 def has_form(thing, word, parts):
     """Whether it is a tuple of the word and so many further parts of any kind."""
     return isinstance(thing, tuple) and len(thing) == parts + 1 and thing[0] == word
+
+
+def is_square(thing, many):
+    """Whether it is a tuple of so many tuples of so many integers 0 and 1."""
+    if not isinstance(thing, tuple) or len(thing) != many:
+        return False
+    return all(are_integers_below(row, 2) and len(row) == many for row in thing)

@@ -130,3 +130,48 @@ def rules_of_all_sizes():
 
 def rules_within_the_limit():
     return [(m, rules) for m, rules in rules_of_all_sizes() if len(oracle.closed_lots(m, rules)) <= 24]
+
+
+def house_of_pieces(many, pairs):
+    """The straight house of so many pieces, the first one of each pair being within the second one."""
+    rules = tuple(((q,), p) for p, q in pairs)
+    return oracle.house_of(many, rules)
+
+
+# Pairs of pieces: fence and crown have just as many as rules may have, or one less, the others have more.
+FENCE = house_of_pieces(6, [(low, high) for low in (0, 1) for high in (2, 3, 4, 5)])
+CROWN = house_of_pieces(6, [(low, high) for low in (0, 1, 2, 3) for high in (4, 5)])
+BRIDGE = house_of_pieces(6, [(low, high) for low in (0, 1, 2) for high in (3, 4, 5)])
+STRAIGHT = [
+    ONE, TWO, chain(3), chain(7), CUBE, pairs_house(TWO, TWO), pairs_house(TWO, chain(3)), chain(24), FENCE, CROWN,
+    BRIDGE, pairs_house(chain(3), chain(5)), pairs_house(chain(4), chain(4)), pairs_house(chain(4), chain(6)),
+    pairs_house(CUBE, chain(3)), pairs_house(TWO, CUBE), house_of_pieces(3, [(0, 2), (1, 2)]),
+    house_of_pieces(4, [(0, 2), (1, 2), (1, 3)]),
+]
+STRAIGHT += [shuffled(house, seed + 20) for seed, house in enumerate(STRAIGHT[2:])]
+CROOKED = [
+    FLAT, LEANING, flat(6), flat(24), pairs_house(TWO, FLAT), pairs_house(LEANING, TWO), pairs_house(LEANING, chain(4)),
+    of_pairs(6, {(1, 2), (3, 4)}), of_pairs(8, {(1, 4), (1, 5), (2, 4), (3, 5), (3, 6)}),
+    of_pairs(7, {(1, 2), (1, 3), (2, 3), (4, 5)}), pairs_house(flat(6), chain(4)), shared_sets_house(12, 2),
+    # Of these the one has flat lots alone, the other one leaning ones alone.
+    pairs_house(FLAT, chain(4)), of_pairs(24, {(x, y) for x in range(1, 22) for y in range(x, 22)}),
+]
+CROOKED += [shuffled(house, seed + 50) for seed, house in enumerate(CROOKED)]
+CROOKED += [tuple(zip(*house)) for house in CROOKED[2:14]]
+CROOKED = [house for house in CROOKED if len(house) > 4]
+
+
+def some_rows(house, hands, many, seed):
+    """Random rows of so many hands, the first one of lots that are as often strange as may be."""
+    chance = Random(seed)
+    strange = [x for x in range(len(house)) if 1 < sum(house[x]) < len(house)] or list(range(len(house)))
+    chance.shuffle(strange)
+    found = [tuple(strange[hand % len(strange)] for hand in range(hands))]
+    while len(found) < many:
+        found.append(tuple(chance.randrange(len(house)) for _ in range(hands)))
+    return found
+
+
+def some_plan(hands, many, seed):
+    chance = Random(seed)
+    return tuple(tuple(chance.sample(range(hands), 2)) for _ in range(many)) if hands > 1 else ()

@@ -2,12 +2,22 @@
 
 from unittest import TestCase
 
+from bothandall.before import judge_led, judge_same_end, led_holds, piece_counts, rows_before, same_end_holds
+from bothandall.ends import (
+    ceilings, end_holds, ends_hold, ends_of, floors, judge_end, judge_ends, judge_one_end, one_end_holds,
+)
 from bothandall.houses import (
     all_of, both, depths, greatest, house_holds, is_house, judge_house, least, pieces, steps_above,
 )
 from bothandall.making import above, alike_holds, beside, judge_alike, stretch, turned_over
+from bothandall.rows import (
+    behind, is_at_rest, is_plan, is_row, ledger, line_of, met, resting_plan, strange_pairs,
+)
 from bothandall.rules import (
     closed_lots, closure, fewer_rules, follows_holds, house_of, judge_follows, needless_rules, say_same,
+)
+from bothandall.straight import (
+    is_straight, judge_straight, judge_sums, lot_with, pieces_within, rules_for, straight_holds, sums_hold,
 )
 from tests.anything import is_equal
 
@@ -15,6 +25,8 @@ RULES = (((0, 1), 2), ((2,), 0), ((2,), 1))
 FLAT = ((1, 1, 1, 1, 1), (0, 1, 0, 0, 1), (0, 0, 1, 0, 1), (0, 0, 0, 1, 1), (0, 0, 0, 0, 1))
 LEANING = ((1, 1, 1, 1, 1), (0, 1, 1, 0, 1), (0, 0, 1, 0, 1), (0, 0, 0, 1, 1), (0, 0, 0, 0, 1))
 TWO = ((1, 1), (0, 1))
+THREE = ((1, 1, 1), (0, 1, 1), (0, 0, 1))
+FOUR = ((1, 1, 1, 1), (0, 1, 0, 1), (0, 0, 1, 1), (0, 0, 0, 1))
 
 
 class ExamplesTest(TestCase):
@@ -50,3 +62,49 @@ class ExamplesTest(TestCase):
             ((1, 0), (1, 1)), ((1, 1, 1, 1), (0, 1, 0, 1), (0, 0, 1, 1), (0, 0, 0, 1)),
             ((1, 1, 1), (0, 1, 1), (0, 0, 1)), ((1, 1), (0, 1)), ("alike", (1, 0)), True,
         ])
+
+    def test_straight(self):
+        self.same([
+            is_straight(THREE), judge_straight(FLAT)[:2], straight_holds(FLAT, ("five", "flat", 0, 3, 1, 2, 4)),
+            judge_straight(LEANING), pieces_within(LEANING, 2), lot_with(FLAT, (1, 3)), rules_for(THREE),
+        ], [
+            True, ("five", "flat"), True, ("five", "leaning", 0, 1, 2, 3, 4), (1, 2), 4, (2, (((1,), 0),)),
+        ])
+        self.same([
+            judge_sums(FLAT, "stays"), judge_sums(LEANING, "never falls"),
+            sums_hold(LEANING, "never rises", ("pair", 1, 3)), sums_hold(LEANING, "never rises", ("pair", 2, 3)),
+        ], [("so",), ("so",), True, False])
+
+    def test_rows(self):
+        self.same([
+            met(FLAT, (1, 2, 3), (0, 1)), behind(FLAT, (1, 2, 3), ((1, 2), (0, 1))),
+            ledger(FLAT, (1, 2, 3), ((0, 1), (1, 2))), strange_pairs(FLAT, (1, 0, 3)), is_at_rest(FLAT, (4, 0, 2)),
+            line_of(FLAT, (4, 0, 2)), line_of(FLAT, (1, 2, 3)), resting_plan(FLAT, (4, 0, 2)),
+        ], [(0, 4, 3), (0, 1, 4), (3, 0, 0), ((0, 2),), True, (0, 2, 4), None, ()])
+        self.same([is_row(FLAT, (5,)), is_plan(2, ((0, 1), (1, 0))), is_plan(2, ((0, 0),))], [False, True, False])
+
+    def test_ends(self):
+        self.same([
+            ends_of(FLAT, (1, 2, 3)), judge_one_end(FLAT, (1, 2)), judge_end(FLAT, (1, 2), (0, 0))[0],
+            floors(FLAT, (1, 2, 3)), ceilings(FLAT, (1, 2, 3)), judge_ends(THREE), judge_ends(FLAT)[0],
+        ], [
+            ((0, 1, 4), (0, 2, 4), (0, 3, 4)), ("one", (0, 4)), "closed", (0, 0, 4), (0, 4, 4), ("straight",), "row",
+        ])
+        self.same([
+            end_holds(FLAT, (1, 2, 3), (0, 3, 4), ("plan", ((0, 1),))),
+            one_end_holds(FLAT, (1, 2, 3), ("two", ((0, 1),), ((1, 2),))),
+            ends_hold(FLAT, ("row", (1, 2, 3), ((0, 1),), ((2, 1),))),
+            end_holds(FLAT, (1, 2), (0, 0), ("closed", ((0, 4), (1, 2)))),
+        ], [True, True, True, True])
+
+    def test_before(self):
+        self.same([
+            piece_counts(FOUR, (1, 3, 0)), judge_same_end(FOUR, (1, 2), (0, 3)), judge_same_end(FOUR, (1, 1), (1, 3)),
+            same_end_holds(FOUR, (1, 2), (2, 2), ("piece", 1)), rows_before(FOUR, (0, 3)), rows_before(FOUR, (1, 3)),
+        ], [
+            (2, 1), ("same",), ("piece", 2), True, ((0, 3), (1, 2), (2, 1), (3, 0)), ((1, 3), (3, 1)),
+        ])
+        self.same([
+            judge_led(FOUR, (1, 2), (3, 0)), judge_led(FOUR, (0, 3), (0, 3)), judge_led(FOUR, (0, 3), (1, 2))[0],
+            led_holds(FOUR, (0, 3), (1, 2), ("closed", ((0, 3),))),
+        ], [("plan", ((1, 0),)), ("plan", ()), "closed", False])

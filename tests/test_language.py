@@ -1,6 +1,7 @@
 """Some of the rules of the language that can be seen in the text of the package."""
 
 import ast
+import builtins
 from pathlib import Path
 from unittest import TestCase
 
@@ -11,7 +12,42 @@ BARRED = {
     "open", "input", "eval", "exec", "compile", "globals", "locals", "vars", "dir", "id", "hash", "print", "chr",
     "delattr", "help", "breakpoint", "round", "complex", "slice",
 }
+BUILTINS = {
+    "len", "range", "enumerate", "zip", "min", "max", "sum", "abs", "sorted", "reversed", "int", "str", "bool", "list",
+    "tuple", "dict", "set", "isinstance", "ord", "repr", "any", "all", "divmod", "map", "Exception", "ValueError",
+    "TypeError", "KeyError", "IndexError", "LookupError", "ZeroDivisionError", "NotImplementedError",
+}
+METHODS = {
+    "append", "clear", "copy", "count", "endswith", "extend", "find", "get", "index", "insert", "isalnum", "isalpha",
+    "isdigit", "islower", "isspace", "isupper", "items", "join", "keys", "ljust", "lower", "lstrip", "partition", "pop",
+    "remove", "replace", "reverse", "rfind", "rjust", "rpartition", "rsplit", "rstrip", "setdefault", "split",
+    "splitlines", "startswith", "strip", "update", "upper", "values", "zfill", "bit_length", "add", "discard",
+}
+# What may stand around a generator expression, and what a name may keep of the calls that are iterated.
+TAKERS = {"list", "tuple", "dict", "sorted", "sum", "min", "max", "any", "all"}
+KEPT = {"range", "zip", "enumerate", "reversed", "map"}
 STRANGE = (ast.AsyncFunctionDef, ast.AsyncFor, ast.AsyncWith, ast.Await, ast.TryStar, ast.Div, ast.MatMult)
+
+
+def trees():
+    return [(file, ast.parse(file.read_text(encoding="utf-8"))) for file in FILES]
+
+
+def bound_names(tree):
+    """All names that a file binds but for those of imports: parameters, targets, functions and classes."""
+    found = []
+    for node in ast.walk(tree):
+        if isinstance(node, (ast.FunctionDef, ast.ClassDef)):
+            found.append(node.name)
+        elif isinstance(node, ast.arg):
+            found.append(node.arg)
+        elif isinstance(node, ast.Name) and isinstance(node.ctx, ast.Store):
+            found.append(node.id)
+    return found
+
+
+def imported_names(tree):
+    return [name.name for node in tree.body if isinstance(node, ast.ImportFrom) for name in node.names]
 
 
 class LanguageTest(TestCase):
@@ -47,3 +83,70 @@ class LanguageTest(TestCase):
                     self.assertNotIsInstance(node.value, (float, complex), file)
                 if isinstance(node, ast.Name) and file.name != "__main__.py":
                     self.assertNotIn(node.id, BARRED, file)
+
+    def test_names(self):
+        for file, tree in trees():
+            names, imported = bound_names(tree), imported_names(tree)
+            classes = [node.name for node in tree.body if isinstance(node, ast.ClassDef)]
+            for name in names:
+                self.assertNotIn(name, vars(builtins), file)
+                self.assertFalse(name.startswith("__") and name != "__init__", (file, name))
+                self.assertNotIn(name, imported, file)
+            self.assertEqual([names.count(name) for name in classes], [1] * len(classes), file)
+            top = [node.name for node in tree.body if isinstance(node, (ast.ClassDef, ast.FunctionDef))] + imported
+            self.assertEqual(sorted(top), sorted(set(top)), file)
+
+    def test_calls(self):
+        for file, tree in trees():
+            known = set(bound_names(tree)) | set(imported_names(tree)) | BUILTINS
+            for node in ast.walk(tree):
+                if isinstance(node, ast.Name):
+                    self.assertIn(node.id, known, (file, node.lineno))
+                if isinstance(node, ast.Call) and isinstance(node.func, ast.Attribute):
+                    self.assertIn(node.func.attr, METHODS, (file, node.lineno))
+                    self.assertEqual(node.keywords, [], (file, node.lineno))
+
+    def test_imports_of_the_file_that_defines(self):
+        defined = {
+            "bothandall." + file.stem: set(bound_names(tree)) - {"thing"} for file, tree in trees()
+        }
+        for file, tree in trees():
+            for node in tree.body:
+                if isinstance(node, ast.ImportFrom) and node.module not in LIBRARY:
+                    for name in node.names:
+                        self.assertIn(name.name, defined[node.module], file)
+                        self.assertIs(name.asname, None)
+            used = {node.id for node in ast.walk(tree) if isinstance(node, ast.Name)}
+            self.assertEqual(set(imported_names(tree)) - used, set(), file)
+
+    def test_no_rounds_of_imports(self):
+        asked = {}
+        for file, tree in trees():
+            modules = [node.module for node in tree.body if isinstance(node, ast.ImportFrom)]
+            asked["bothandall." + file.stem] = {module for module in modules if module.startswith("bothandall.")}
+        while asked:
+            free = [name for name in asked if not asked[name] & set(asked)]
+            self.assertTrue(free, asked)
+            asked = {name: asked[name] for name in asked if name not in free}
+
+    def test_generator_expressions(self):
+        for file, tree in trees():
+            inner = [node for node in ast.walk(tree) if isinstance(node, ast.GeneratorExp)]
+            taken = []
+            for node in ast.walk(tree):
+                if isinstance(node, ast.Call) and isinstance(node.func, ast.Name) and node.func.id in TAKERS:
+                    taken += [arg for arg in node.args if isinstance(arg, ast.GeneratorExp)]
+            self.assertEqual(len(inner), len(taken), file)
+
+    def test_kept_ranges(self):
+        closed = (ast.GeneratorExp, ast.Lambda, ast.FunctionDef)
+        for file, tree in trees():
+            for function in [node for node in ast.walk(tree) if isinstance(node, ast.FunctionDef)]:
+                kept = set()
+                for node in ast.walk(function):
+                    if isinstance(node, ast.Assign) and isinstance(node.value, ast.Call):
+                        if isinstance(node.value.func, ast.Name) and node.value.func.id in KEPT:
+                            kept |= {target.id for target in node.targets}
+                for inside in [node for node in ast.walk(function) if isinstance(node, closed) and node is not function]:
+                    read = {node.id for node in ast.walk(inside) if isinstance(node, ast.Name)}
+                    self.assertEqual(kept & read, set(), (file, inside.lineno))

@@ -85,9 +85,10 @@ class TwoHousesTest(Case):
     def test_errors(self):
         # A wrong house is told ahead of too many lots.
         for one, other in ((TWO, FLAT), (chain(24), chain(24)), (flat(20), LEANING)):
+            wrong = wrong_houses() if one == TWO else spread(wrong_houses(), 500)
             for function in (beside, above, judge_alike):
                 self.refuses_in_order(function, {"one": one, "other": other}, [
-                    ("one", BadHouse, wrong_houses()), ("other", BadHouse, wrong_houses()[::-1]),
+                    ("one", BadHouse, wrong), ("other", BadHouse, wrong[::-1]),
                 ])
 
 

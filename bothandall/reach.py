@@ -1,0 +1,35 @@
+"""What can be reached from a row by steps, and the shortest ways there.
+
+In each function `steps` is a function that gives, for a row, the list of the pairs of a name and of
+the row to which the step of this name leads it.
+"""
+
+
+def reached(start, steps):
+    """All that steps lead to, nearest first, each with the pair of what it came from and by which step."""
+    came = {start: None}
+    rows = [start]
+    at = 0
+    while at < len(rows):
+        row = rows[at]
+        at += 1
+        for name, after in steps(row):
+            if after not in came:
+                came[after] = (row, name)
+                rows.append(after)
+    return came
+
+
+def way_to(came, row):
+    """The list of the names of the steps by which a reached row came."""
+    names = []
+    while came[row] is not None:
+        row, name = came[row]
+        names.append(name)
+    return names[::-1]
+
+
+def are_closed(rows, steps):
+    """Whether each step leads each of some rows to one of them."""
+    known = {row: True for row in rows}
+    return all(after in known for row in rows for _, after in steps(row))
