@@ -55,10 +55,24 @@ def require_plan(hands, plan):
         raise BadPlan(plan)
 
 
+def require_two_plans(hands, one, other):
+    """Raise BadNumber, or BadPlan with the first of two values that is no plan of so many hands."""
+    require_plan(hands, one)
+    require_plan(hands, other)
+
+
 def require_planned(house, row, plan):
     """Raise the errors of a house, of a row and of a plan, in this order."""
     require_row(house, row)
     require_plan(len(row), plan)
+
+
+def all_rows(many, hands):
+    """The ascending list of all rows of so many hands, of so many lots."""
+    rows = [()]
+    for _ in range(hands):
+        rows = [(*row, x) for row in rows for x in range(many)]
+    return rows
 
 
 def after_meeting(tables, row, meeting):

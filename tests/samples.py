@@ -175,3 +175,49 @@ def some_rows(house, hands, many, seed):
 def some_plan(hands, many, seed):
     chance = Random(seed)
     return tuple(tuple(chance.sample(range(hands), 2)) for _ in range(many)) if hands > 1 else ()
+
+
+SIX = (
+    (0, 1), (2, 3), (0, 2), (4, 5), (3, 5), (1, 3), (1, 2), (0, 4), (1, 2), (3, 5), (1, 5), (0, 1), (2, 4), (1, 2), (3, 4),
+)
+# The first hand meets all others, then the next one does, and so on: this lines up in all houses.
+LADDERS = {
+    hands: tuple((i, j) for i in range(hands) for j in range(i + 1, hands)) for hands in range(1, 7)
+}
+
+
+def turned_plan(plan):
+    """The same meetings with the two hands of each exchanged."""
+    return tuple((j, i) for i, j in plan)
+
+
+def renamed_plan(plan, names):
+    return tuple((names[i], names[j]) for i, j in plan)
+
+
+def plans_of(hands, most, seed):
+    """Plans of so many hands with at most so many meetings: random ones, ladders, with idle meetings, and more."""
+    if hands == 1:
+        return [()]
+    names = list(range(hands))
+    Random(seed).shuffle(names)
+    ladder = LADDERS[hands]
+    found = [(), ((0, 1),), ((1, 0),), ((0, 1),) * most, ladder, turned_plan(ladder), renamed_plan(ladder, names)]
+    found += [ladder[:-1], ladder[1:], ladder + ladder[:2], ladder[:1] + ladder, ladder[::-1], ladder + turned_plan(ladder[-2:])]
+    found += [some_plan(hands, many, seed + many) for many in (1, 2, 3, 5, 8, 12, most)]
+    if hands == 6:
+        found += [SIX, turned_plan(SIX), renamed_plan(SIX, names), SIX[:-1], SIX[::-1], SIX + SIX[-1:]]
+    return [plan for plan in found if len(plan) <= most]
+
+
+def some_told(hands, seed):
+    """Told pairs of so many hands: none, all, in one line, round, leading by others, and random ones."""
+    every = tuple((i, j) for i in range(hands) for j in range(hands) if i != j)
+    names = list(range(hands))
+    Random(seed).shuffle(names)
+    line = tuple(zip(names, names[1:]))
+    chance = Random(seed + 1)
+    found = [(), every, tuple(sorted(line)), tuple(sorted(set(line + ((names[-1], names[0]),)) if hands > 1 else ()))]
+    found += [tuple(sorted(line[1:])), tuple(sorted(line[::2])), tuple(pair for pair in every if pair[0] < pair[1])]
+    found += [tuple(sorted(chance.sample(every, min(many, len(every))))) for many in (1, 2, 3, 4)]
+    return sorted(set(found))

@@ -3,13 +3,16 @@
 from unittest import TestCase
 
 from bothandall.before import judge_led, judge_same_end, led_holds, piece_counts, rows_before, same_end_holds
+from bothandall.bits import bits_hold, idle_meetings, judge_bits, judge_same_bits, least_plan, same_bits_hold
 from bothandall.ends import (
     ceilings, end_holds, ends_hold, ends_of, floors, judge_end, judge_ends, judge_one_end, one_end_holds,
 )
 from bothandall.houses import (
     all_of, both, depths, greatest, house_holds, is_house, judge_house, least, pieces, steps_above,
 )
+from bothandall.lining import judge_lining, judge_same_plans, lining_holds, same_plans_hold, strange_row
 from bothandall.making import above, alike_holds, beside, judge_alike, stretch, turned_over
+from bothandall.parts import held_parts, is_derivation, is_parts_order, parts_of
 from bothandall.rows import (
     behind, is_at_rest, is_plan, is_row, ledger, line_of, met, resting_plan, strange_pairs,
 )
@@ -19,6 +22,7 @@ from bothandall.rules import (
 from bothandall.straight import (
     is_straight, judge_straight, judge_sums, lot_with, pieces_within, rules_for, straight_holds, sums_hold,
 )
+from bothandall.told import are_told, judge_told, judge_told_bits, needless_pairs, told_bits_hold, told_holds
 from tests.anything import is_equal
 
 RULES = (((0, 1), 2), ((2,), 0), ((2,), 1))
@@ -26,6 +30,9 @@ FLAT = ((1, 1, 1, 1, 1), (0, 1, 0, 0, 1), (0, 0, 1, 0, 1), (0, 0, 0, 1, 1), (0, 
 LEANING = ((1, 1, 1, 1, 1), (0, 1, 1, 0, 1), (0, 0, 1, 0, 1), (0, 0, 0, 1, 1), (0, 0, 0, 0, 1))
 TWO = ((1, 1), (0, 1))
 THREE = ((1, 1, 1), (0, 1, 1), (0, 0, 1))
+SIX = (
+    (0, 1), (2, 3), (0, 2), (4, 5), (3, 5), (1, 3), (1, 2), (0, 4), (1, 2), (3, 5), (1, 5), (0, 1), (2, 4), (1, 2), (3, 4),
+)
 FOUR = ((1, 1, 1, 1), (0, 1, 0, 1), (0, 0, 1, 1), (0, 0, 0, 1))
 
 
@@ -108,3 +115,45 @@ class ExamplesTest(TestCase):
             judge_led(FOUR, (1, 2), (3, 0)), judge_led(FOUR, (0, 3), (0, 3)), judge_led(FOUR, (0, 3), (1, 2))[0],
             led_holds(FOUR, (0, 3), (1, 2), ("closed", ((0, 3),))),
         ], [("plan", ((1, 0),)), ("plan", ()), "closed", False])
+
+    def test_bits(self):
+        self.same([
+            judge_bits(2, ((1, 0),)), judge_bits(3, ((0, 1), (1, 2), (0, 1))), judge_bits(3, ((0, 1), (1, 2)))[0],
+            bits_hold(2, (), ("strange", 0, 1, (1, 0), (0, 1))), idle_meetings(2, ((0, 1), (0, 1))),
+            len(least_plan(5)), least_plan(1),
+        ], [("line", (1, 0)), ("line", (0, 1, 2)), "strange", True, (1,), 9, ()])
+        self.same([
+            judge_same_bits(2, ((0, 1),), ((1, 0), (0, 1))), judge_same_bits(2, ((0, 1),), ())[0],
+            same_bits_hold(2, ((0, 1),), (), ("row", (1, 0))),
+        ], [("same",), "row", True])
+
+    def test_parts(self):
+        self.same([
+            parts_of(2, ((0, 1), (1, 0))), held_parts(2, ((0, 1), (1, 0))),
+            is_derivation(2, ((0, 1),), ((0, 0, ("same",)), (2, 0, ("first", 0)))),
+            is_parts_order(2, ((0, 1),), ((1, 0, 0, 1), (0, 1, 0, 1), (1, 1, 1, 1), (0, 0, 0, 1))),
+        ], [
+            (("hand", 0), ("hand", 1), ("both", 0, 1), ("all", 0, 1), ("both", 3, 2), ("all", 3, 2)), (5, 4), True, True,
+        ])
+
+    def test_lining(self):
+        steps = ((0, 0, ("same",)), (2, 0, ("first", 0)), (2, 3, ("second", 1)))
+        self.same([
+            judge_lining(3, ((0, 1), (1, 2), (0, 1)))[:2], judge_lining(2, ()), judge_lining(6, SIX)[0],
+            lining_holds(2, ((0, 1),), ("line", (0, 1), steps)), strange_row(FLAT, 2, ((0, 1),)),
+        ], [("line", (0, 1, 2)), ("strange", 0, 1, ((1, 0), (0, 1))), "strange", True, None])
+        self.same([
+            judge_same_plans(2, ((0, 1),), ((1, 0), (0, 1)))[0], judge_same_plans(2, ((0, 1),), ())[0],
+            same_plans_hold(2, (), (), ("same", ((0, 0, ("same",)), (1, 1, ("same",))))),
+        ], ["same", "unlike", True])
+
+    def test_told(self):
+        self.same([
+            are_told(2, ((0, 1), (1, 0))), judge_told_bits(2, ((1, 0),), ()), judge_told(2, ((0, 1),), ())[:2],
+            judge_told(3, ((0, 1),), ((0, 2), (1, 2)))[0], judge_told(3, ((0, 1),), ((1, 2), (0, 1)))[:2],
+            needless_pairs(3, ((0, 1), (0, 2)), ((1, 2),)),
+        ], [True, ("line", (1, 0)), ("line", (0, 1)), "line", ("line", (0, 1, 2)), ()])
+        self.same([
+            told_holds(2, ((0, 1), (1, 0)), (), ("line", (1, 0), ((1, 0, ("told",)),))),
+            told_bits_hold(2, ((0, 1),), (), ("strange", 0, 1, (1, 0), (0, 1))),
+        ], [True, False])

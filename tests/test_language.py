@@ -89,7 +89,8 @@ class LanguageTest(TestCase):
             names, imported = bound_names(tree), imported_names(tree)
             classes = [node.name for node in tree.body if isinstance(node, ast.ClassDef)]
             for name in names:
-                self.assertNotIn(name, vars(builtins), file)
+                # Python's own _ is there just while examples are shown.
+                self.assertFalse(name != "_" and hasattr(builtins, name) and name != "__init__", (file, name))
                 self.assertFalse(name.startswith("__") and name != "__init__", (file, name))
                 self.assertNotIn(name, imported, file)
             self.assertEqual([names.count(name) for name in classes], [1] * len(classes), file)

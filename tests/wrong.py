@@ -1,6 +1,6 @@
 """Wrong values for the arguments that many functions share."""
 
-from tests import oracle_rows
+from tests import oracle_plans, oracle_rows
 from tests.anything import any_values, near
 
 
@@ -43,3 +43,16 @@ def wrong_lines(house, line):
     odd = [line[::-1], line + line[-1:], line[:-1], line + line, list(line), line[1:] + line[:1]]
     found = odd + any_values() + near(line)
     return [value for value in found if not (oracle_rows.is_line(house, value) and len(value) == len(line))]
+
+
+def odd_told(hands):
+    return [
+        ((0, 1), (0, 1)), ((1, 0), (0, 1)), ((0, 0),), ((0, hands),), ((hands, 0),), ((-1, 0),), ((0, True),), ([0, 1],),
+        [(0, 1)], ((0, 1), None), ((0, 1), [1, 0]), ((0, 1, 2),), ((0,),), (0, 1), ((0, 1), ()), (((0, 1),),), ((0, "1"),),
+        {(0, 1): 0}, ((0, 1), (0, 0)), ((0, 1), (1, 0), (0, 1)),
+    ]
+
+
+def wrong_told(hands, told=((0, 1), (1, 0))):
+    found = odd_told(hands) + any_values() + near(told)
+    return [value for value in found if not oracle_plans.is_told(hands, value)]
