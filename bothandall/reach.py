@@ -1,6 +1,6 @@
-"""What can be reached from a row by steps, and the shortest ways there.
+"""What can be reached from a row by steps, the shortest ways there, and hands that pairs lead to.
 
-In each function `steps` is a function that gives, for a row, the list of the pairs of a name and of
+In the functions for rows `steps` is a function that gives, for a row, the list of the pairs of a name and of
 the row to which the step of this name leads it.
 """
 
@@ -33,3 +33,14 @@ def are_closed(rows, steps):
     """Whether each step leads each of some rows to one of them."""
     known = {row: True for row in rows}
     return all(after in known for row in rows for _, after in steps(row))
+
+
+def leads_of(hands, pairs):
+    """The pairs of hands from the first one of which some pairs lead to the second one."""
+    leads = {pair: True for pair in pairs}
+    for k in range(hands):
+        for i in range(hands):
+            for j in range(hands):
+                if (i, k) in leads and (k, j) in leads:
+                    leads[(i, j)] = True
+    return leads

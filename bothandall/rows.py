@@ -2,7 +2,7 @@
 
 from bothandall.errors import BadMeeting, BadNumber, BadPlan, BadRow
 from bothandall.houses import both_and_all, require_house
-from bothandall.kinds import are_integers_below, is_integer_from
+from bothandall.kinds import are_integers_below, is_ascending, is_integer_from
 
 MOST_HANDS = 6
 MOST_MEETINGS = 20
@@ -16,6 +16,13 @@ def are_some_lots(house, thing):
 def is_meeting(hands, thing):
     """Whether any value is a meeting of two of so many hands."""
     return are_integers_below(thing, hands) and len(thing) == 2 and thing[0] != thing[1]
+
+
+def are_ascending_meetings(hands, thing):
+    """Whether any value is an ascending tuple of meetings of so many hands."""
+    if not isinstance(thing, tuple) or not all(is_meeting(hands, pair) for pair in thing):
+        return False
+    return is_ascending(thing)
 
 
 def is_list_of_meetings(hands, thing):

@@ -84,6 +84,16 @@ def closed_up(rules, lot):
     return tuple(sorted([*lot, *put]))
 
 
+def in_both(one, other):
+    """The facts that two lots share."""
+    return tuple(fact for fact in one if fact in other)
+
+
+def from_both(rules, one, other):
+    """All that follows from two lots together."""
+    return closed_up(rules, tuple(sorted(set(one) | set(other))))
+
+
 def all_lots(m):
     """All lots of m facts, ascending."""
     lots = [()]

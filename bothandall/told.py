@@ -3,17 +3,15 @@
 from bothandall.bits import holds_for_rows, judge_for_rows
 from bothandall.claims import parts_and_held
 from bothandall.errors import BadTold
-from bothandall.kinds import is_ascending
 from bothandall.lining import holds_for_parts, judge_parts
-from bothandall.rows import all_rows, is_meeting, require_hands, require_plan
+from bothandall.reach import leads_of
+from bothandall.rows import all_rows, are_ascending_meetings, require_hands, require_plan
 
 
 def are_told(hands, thing):
     """Whether any value is told pairs of so many hands."""
     require_hands(hands)
-    if not isinstance(thing, tuple) or not all(is_meeting(hands, pair) for pair in thing):
-        return False
-    return is_ascending(thing)
+    return are_ascending_meetings(hands, thing)
 
 
 def require_told(hands, told, plan):
@@ -26,17 +24,6 @@ def require_told(hands, told, plan):
 def kept_rows(hands, told):
     """The rows of bits that keep told pairs."""
     return [row for row in all_rows(2, hands) if all(row[i] <= row[j] for i, j in told)]
-
-
-def leads_of(hands, told):
-    """The pairs of hands from the first one of which told pairs lead to the second one."""
-    leads = {pair: True for pair in told}
-    for k in range(hands):
-        for i in range(hands):
-            for j in range(hands):
-                if (i, k) in leads and (k, j) in leads:
-                    leads[(i, j)] = True
-    return leads
 
 
 def judge_told_bits(hands, told, plan):

@@ -1,6 +1,6 @@
 """Rules and houses that many tests go over."""
 
-from itertools import product
+from itertools import permutations, product
 from random import Random
 
 from tests import oracle
@@ -221,3 +221,17 @@ def some_told(hands, seed):
     found += [tuple(sorted(line[1:])), tuple(sorted(line[::2])), tuple(pair for pair in every if pair[0] < pair[1])]
     found += [tuple(sorted(chance.sample(every, min(many, len(every))))) for many in (1, 2, 3, 4)]
     return sorted(set(found))
+
+
+def ties_of(hands, seed):
+    """Ties of so many hands: none, all, a way, its beginning, with more ties, rings of all sizes, and random ones."""
+    every = list(permutations(range(hands), 2))
+    names = list(range(hands))
+    chance = Random(seed)
+    chance.shuffle(names)
+    way = list(zip(names, names[1:]))
+    onward = [(names[i], names[j]) for i in range(hands) for j in range(i + 1, hands)]
+    found = [[], every, way, way[1:], way[::2], onward, onward[:-1], onward[1:], way + onward[::2]]
+    found += [way + [(names[many], names[0])] for many in range(1, hands)]
+    found += [chance.sample(some, min(many, len(some))) for many in (1, 2, 3, 4, 6, 9, 14) for some in (every, onward)]
+    return sorted({tuple(sorted(set(ties))) for ties in found})

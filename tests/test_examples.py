@@ -4,6 +4,7 @@ from unittest import TestCase
 
 from bothandall.before import judge_led, judge_same_end, led_holds, piece_counts, rows_before, same_end_holds
 from bothandall.bits import bits_hold, idle_meetings, judge_bits, judge_same_bits, least_plan, same_bits_hold
+from bothandall.crooked import cut_of, is_cut, is_mend, judge_rules, mend_of, rules_hold
 from bothandall.ends import (
     ceilings, end_holds, ends_hold, ends_of, floors, judge_end, judge_ends, judge_one_end, one_end_holds,
 )
@@ -19,9 +20,14 @@ from bothandall.rows import (
 from bothandall.rules import (
     closed_lots, closure, fewer_rules, follows_holds, house_of, judge_follows, needless_rules, say_same,
 )
+from bothandall.still import ended_plan, is_still, is_tied_plan, longest_tied, still_ends
 from bothandall.straight import (
     is_straight, judge_straight, judge_sums, lot_with, pieces_within, rules_for, straight_holds, sums_hold,
 )
+from bothandall.things import (
+    all_things, both_things, house_of_things, is_thing, is_within_thing, many_things, resting_line, things_behind,
+)
+from bothandall.ties import are_ties, judge_round, judge_way, ring_row, round_holds, strange_still, way_holds
 from bothandall.told import are_told, judge_told, judge_told_bits, needless_pairs, told_bits_hold, told_holds
 from tests.anything import is_equal
 
@@ -33,6 +39,9 @@ THREE = ((1, 1, 1), (0, 1, 1), (0, 0, 1))
 SIX = (
     (0, 1), (2, 3), (0, 2), (4, 5), (3, 5), (1, 3), (1, 2), (0, 4), (1, 2), (3, 5), (1, 5), (0, 1), (2, 4), (1, 2), (3, 4),
 )
+CHAIN, OPEN = ((0, 1), (1, 2)), ((0, 1), (0, 2))
+CROOKED = (((0, 1), 2),)
+TWOFOLD = (((0, 1), 2), ((0, 2), 1), ((1, 2), 0))
 FOUR = ((1, 1, 1, 1), (0, 1, 0, 1), (0, 0, 1, 1), (0, 0, 0, 1))
 
 
@@ -157,3 +166,38 @@ class ExamplesTest(TestCase):
             told_holds(2, ((0, 1), (1, 0)), (), ("line", (1, 0), ((1, 0, ("told",)),))),
             told_bits_hold(2, ((0, 1),), (), ("strange", 0, 1, (1, 0), (0, 1))),
         ], [True, False])
+
+    def test_ties(self):
+        self.same([
+            are_ties(3, CHAIN), are_ties(2, ((1, 1),)), judge_round(3, CHAIN), judge_round(2, ((0, 1), (1, 0)))[0],
+            judge_way(3, CHAIN), judge_way(3, OPEN), ring_row(3, CHAIN), strange_still(3, CHAIN),
+        ], [True, False, ("order", (0, 1, 2)), "ring", ("way", (0, 1, 2)), ("two", 1, 2), None, None])
+        self.same([
+            round_holds(3, OPEN, ("order", (0, 2, 1))), round_holds(2, ((0, 1), (1, 0)), ("ring", (1, 0))),
+            way_holds(3, OPEN, ("two", 0, 1)), strange_still(3, OPEN) in ((0, 1, 2), (0, 2, 1)),
+        ], [True, True, False, True])
+
+    def test_still(self):
+        self.same([
+            is_still(FLAT, (0, 1, 4), CHAIN), is_tied_plan(FLAT, (1, 2, 3), CHAIN, ((0, 1), (0, 1))),
+            still_ends(FLAT, (1, 2, 3), CHAIN), longest_tied(FLAT, (4, 1, 0), CHAIN), ended_plan(FLAT, (1, 0, 4), CHAIN),
+        ], [True, False, ((0, 1, 4), (0, 3, 4)), 3, ((0, 1),)])
+
+    def test_things(self):
+        self.same([
+            both_things("numbers", 360, 12, 90), all_things("partings", 4, (0, 0, 1, 2), (0, 1, 1, 2)),
+            both_things("spaces", 3, (0, 1, 2, 3), (0, 1, 4, 5)), all_things("stretches", 9, (1, 2), (5, 6)),
+            all_things("spaces", 3, (0, 3), (0, 5)), both_things("stretches", 9, (1, 2), (5, 6)),
+        ], [6, (0, 0, 0, 1), (0, 1), (1, 6), (0, 3, 5, 6), ()])
+        self.same([
+            is_thing("partings", 3, (0, 2, 1)), is_within_thing("numbers", 12, 4, 6), many_things("partings", 5),
+            many_things("spaces", 4), house_of_things("stretches", 1), resting_line("numbers", 360, (12, 90, 8)),
+            things_behind("stretches", 9, ((1, 2), (2, 6)), ((0, 1),)),
+        ], [False, False, 52, 67, (((1, 1), (0, 1)), ((), (0, 0))), (2, 12, 360), ((2, 2), (1, 6))])
+
+    def test_crooked(self):
+        self.same([
+            judge_rules(3, CROOKED)[0], judge_rules(3, ()), cut_of(3, CROOKED), len(cut_of(3, TWOFOLD)),
+            len(mend_of(3, CROOKED)), is_mend(3, CROOKED, (((0,), 2),)), is_cut(3, TWOFOLD, (0,)),
+            rules_hold(3, CROOKED, ("lots", (2,), (0,), (1,))),
+        ], ["lots", ("straight",), (0,), 3, 1, True, False, True])

@@ -46,8 +46,21 @@ def bound_names(tree):
     return found
 
 
+def own_methods():
+    """The names of all methods that the package defines."""
+    classes = [node for _, tree in trees() for node in ast.walk(tree) if isinstance(node, ast.ClassDef)]
+    return {node.name for one in classes for node in one.body if isinstance(node, ast.FunctionDef)}
+
+
 def imported_names(tree):
     return [name.name for node in tree.body if isinstance(node, ast.ImportFrom) for name in node.names]
+
+
+def is_taker(called):
+    """Whether what is called may take a generator expression; of methods just the join of a literal."""
+    if isinstance(called, ast.Attribute):
+        return called.attr == "join" and isinstance(called.value, ast.Constant)
+    return isinstance(called, ast.Name) and called.id in TAKERS
 
 
 class LanguageTest(TestCase):
@@ -104,8 +117,9 @@ class LanguageTest(TestCase):
                 if isinstance(node, ast.Name):
                     self.assertIn(node.id, known, (file, node.lineno))
                 if isinstance(node, ast.Call) and isinstance(node.func, ast.Attribute):
-                    self.assertIn(node.func.attr, METHODS, (file, node.lineno))
-                    self.assertEqual(node.keywords, [], (file, node.lineno))
+                    self.assertIn(node.func.attr, METHODS | own_methods(), (file, node.lineno))
+                    if node.func.attr in METHODS:
+                        self.assertEqual(node.keywords, [], (file, node.lineno))
 
     def test_imports_of_the_file_that_defines(self):
         defined = {
@@ -135,9 +149,17 @@ class LanguageTest(TestCase):
             inner = [node for node in ast.walk(tree) if isinstance(node, ast.GeneratorExp)]
             taken = []
             for node in ast.walk(tree):
-                if isinstance(node, ast.Call) and isinstance(node.func, ast.Name) and node.func.id in TAKERS:
+                if isinstance(node, ast.Call) and is_taker(node.func):
                     taken += [arg for arg in node.args if isinstance(arg, ast.GeneratorExp)]
             self.assertEqual(len(inner), len(taken), file)
+
+    def test_stars_in_calls(self):
+        plain = (ast.Name, ast.Attribute, ast.Constant, ast.List, ast.Tuple)
+        for file, tree in trees():
+            for node in ast.walk(tree):
+                if isinstance(node, ast.Call):
+                    for arg in [arg for arg in node.args if isinstance(arg, ast.Starred)]:
+                        self.assertIsInstance(arg.value, plain, (file, node.lineno))
 
     def test_kept_ranges(self):
         closed = (ast.GeneratorExp, ast.Lambda, ast.FunctionDef)

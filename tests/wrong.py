@@ -1,6 +1,6 @@
 """Wrong values for the arguments that many functions share."""
 
-from tests import oracle_plans, oracle_rows
+from tests import oracle_plans, oracle_rows, oracle_things
 from tests.anything import any_values, near
 
 
@@ -56,3 +56,8 @@ def odd_told(hands):
 def wrong_told(hands, told=((0, 1), (1, 0))):
     found = odd_told(hands) + any_values() + near(told)
     return [value for value in found if not oracle_plans.is_told(hands, value)]
+
+
+def wrong_ties(hands, ties=((0, 1), (1, 0))):
+    found = odd_told(hands) + any_values() + near(ties)
+    return [value for value in found if not oracle_things.is_ties(hands, value)]
