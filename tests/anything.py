@@ -1,8 +1,25 @@
 """Any values, and values that are nearly right."""
 
+from bothandall.desks import Desk
 
-class Stranger:
-    """An object without a meaning of its own, as a desk is to functions that ask for none."""
+
+def worked_desk():
+    """A desk with a promise, two deeds to undo and one to do again."""
+    desk = Desk(3, (((0, 1), 2),), ((0,), (1,)))
+    desk.promise(("lacks", 0, 2))
+    desk.meet((0, 1))
+    desk.learn(0, 1)
+    desk.undo()
+    return desk
+
+
+# Desks that many tests pass, and none may change.
+DESKS = (worked_desk(), Desk(1, (), ((),)))
+
+
+def standings():
+    """All that can be told of the desks."""
+    return [(desk.standing(), desk.undoable(), desk.redoable()) for desk in DESKS]
 
 
 def nested(depth):
@@ -30,7 +47,7 @@ def any_values():
         ((0, 1),), ((0, 1), 2), (((0, 1), 2),), ((), 0), (((), 0),), (((), True),), [((), 0)], ([(), 0],),
         ((1, 0), (0, 1)), ((1, 1), (0, 1)), ((1, 1), (1, 1)), ((1, 1), (False, 1)), [(1, 1), (0, 1)],
         nested(9), nested_lists(9), tuple(range(1000)), (0,) * 1999, (((),) * 999,), list(range(999)),
-        Stranger(), (Stranger(),), {"a": Stranger()}, [Stranger(), ()], (Stranger(), 0, 1),
+        *DESKS, (DESKS[0],), {"a": DESKS[0]}, [DESKS[1], ()], (DESKS[1], 0, 1), (DESKS[0], DESKS[1]),
     ]
 
 
@@ -57,7 +74,7 @@ def near_tuple(value):
     return found
 
 
-def near(value, stranger=Stranger()):
+def near(value):
     """Values that differ from a value of integers, words and tuples in one place."""
     if isinstance(value, bool) or value is None:
         return [0, 1, "", ()]
@@ -67,7 +84,7 @@ def near(value, stranger=Stranger()):
         return near_word(value)
     found = near_tuple(value)
     for at, part in enumerate(value):
-        for other in near(part) + [None, True, False, 0, "", (), [], {}, stranger]:
+        for other in near(part) + [None, True, False, 0, "", (), [], {}, DESKS[0]]:
             found.append(value[:at] + (other,) + value[at + 1:])
     return found
 

@@ -4,7 +4,7 @@ from itertools import combinations, product
 from unittest import TestCase
 
 from bothandall.errors import HouseError
-from tests.anything import is_equal
+from tests.anything import is_equal, standings
 
 
 def outcome(function, *args, **named):
@@ -21,6 +21,12 @@ def spread(values, many):
 
 
 class Case(TestCase):
+    def setUp(self):
+        self.standings = standings()
+
+    def tearDown(self):
+        self.assertEqual(standings(), self.standings)
+
     def told(self, function, /, **arguments):
         """What a call returns, by position and by name, the arguments being as before."""
         before = repr(arguments)

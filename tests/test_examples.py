@@ -5,14 +5,21 @@ from unittest import TestCase
 from bothandall.before import judge_led, judge_same_end, led_holds, piece_counts, rows_before, same_end_holds
 from bothandall.bits import bits_hold, idle_meetings, judge_bits, judge_same_bits, least_plan, same_bits_hold
 from bothandall.crooked import cut_of, is_cut, is_mend, judge_rules, mend_of, rules_hold
+from bothandall.desks import Desk, read_desk
 from bothandall.ends import (
     ceilings, end_holds, ends_hold, ends_of, floors, judge_end, judge_ends, judge_one_end, one_end_holds,
 )
+from bothandall.errors import BadText, Broken
+from bothandall.holders import holders, holders_now, judge_saying, open_lots, saying_holds, sure_lots
 from bothandall.houses import (
     all_of, both, depths, greatest, house_holds, is_house, judge_house, least, pieces, steps_above,
 )
 from bothandall.lining import judge_lining, judge_same_plans, lining_holds, same_plans_hold, strange_row
 from bothandall.making import above, alike_holds, beside, judge_alike, stretch, turned_over
+from bothandall.maps import judge_map, led_row, map_holds
+from bothandall.partings import (
+    house_of_blocks, is_parting, judge_parting, judge_simple, least_kept, parting_holds, simple_holds,
+)
 from bothandall.parts import held_parts, is_derivation, is_parts_order, parts_of
 from bothandall.rows import (
     behind, is_at_rest, is_plan, is_row, ledger, line_of, met, resting_plan, strange_pairs,
@@ -201,3 +208,46 @@ class ExamplesTest(TestCase):
             len(mend_of(3, CROOKED)), is_mend(3, CROOKED, (((0,), 2),)), is_cut(3, TWOFOLD, (0,)),
             rules_hold(3, CROOKED, ("lots", (2,), (0,), (1,))),
         ], ["lots", ("straight",), (0,), 3, 1, True, False, True])
+
+    def test_maps(self):
+        self.same([
+            judge_map(THREE, TWO, (0, 1, 1)), judge_map(FLAT, TWO, (0, 0, 0, 0, 1))[0],
+            map_holds(FLAT, TWO, (0, 0, 0, 0, 1), ("all", 1, 2)), led_row(THREE, TWO, (0, 1, 1), (2, 1, 0)),
+        ], [("good",), "all", True, (1, 1, 0)])
+
+    def test_partings(self):
+        self.same([
+            judge_parting(LEANING, (0, 1, 1, 2, 3)), house_of_blocks(LEANING, (0, 1, 1, 2, 3)), least_kept(LEANING, ((0, 1),)),
+            least_kept(FLAT, ((0, 1),)), judge_simple(FLAT), judge_simple(THREE)[0],
+            simple_holds(LEANING, ("parting", (0, 1, 1, 2, 3))),
+        ], [("kept",), FOUR, (0, 0, 0, 1, 1), (0, 0, 0, 0, 0), ("simple",), "parting", True])
+        # These two are imported there, without an example.
+        self.same([is_parting(FLAT, (0, 1, 1, 2, 3)), parting_holds(LEANING, (0, 1, 1, 2, 3), ("kept",))], [True, True])
+
+    def test_holders(self):
+        self.same([
+            holders_now(FLAT, (1, 2, 3), 1), holders(FLAT, (1, 2, 3), 1), judge_saying(FLAT, (1, 2, 3), 4, 1),
+            judge_saying(FLAT, (1, 2, 3), 4, 2), judge_saying(FLAT, (1, 2, 3), 1, 2)[0], sure_lots(FLAT, (1, 2, 3), 1),
+            open_lots(FLAT, (1, 2, 3), 2),
+        ], [1, (1, 2), ("sure",), ("never",), "open", (0, 1, 2, 3, 4), (1, 2, 3)])
+        self.same([
+            saying_holds(FLAT, (1, 2, 3), 1, 2, ("open", ((1, 2),), ((0, 1),))), saying_holds(FLAT, (1, 2, 3), 0, 3, ("sure",)),
+        ], [True, True])
+
+    def test_desks(self):
+        desk = Desk(3, (((0, 1), 2),), ((0,), (1,)))
+        text = "facts 3\nrule 0 1 > 2\nhand 1\nhand 0 1 2\nwithin 0 1"
+        self.same([
+            desk.meet((0, 1)), desk.row(), desk.learn(0, 1), desk.row(), desk.promise(("within", 0, 1)), desk.undoable(),
+            desk.text(),
+        ], [None, ((), (0, 1, 2)), None, ((1,), (0, 1, 2)), None, 3, text])
+        with self.assertRaises(Broken) as caught:
+            desk.meet((1, 0))
+        self.assertEqual(vars(caught.exception), {"promise": ("within", 0, 1)})
+        self.same([
+            desk.rule(((), 0)), desk.row(), desk.undo(), desk.row(), desk.redoable(), read_desk(desk.text()).is_same(desk),
+            read_desk("facts 1\nhand").standing(),
+        ], [None, ((0, 1, 2), (0, 1, 2)), None, ((1,), (0, 1, 2)), 1, True, (1, (), ((),), ())])
+        with self.assertRaises(BadText) as caught:
+            read_desk("facts 1")
+        self.assertEqual(vars(caught.exception), {"at": 2})

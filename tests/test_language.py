@@ -111,13 +111,14 @@ class LanguageTest(TestCase):
             self.assertEqual(sorted(top), sorted(set(top)), file)
 
     def test_calls(self):
+        methods = METHODS | own_methods()
         for file, tree in trees():
             known = set(bound_names(tree)) | set(imported_names(tree)) | BUILTINS
             for node in ast.walk(tree):
                 if isinstance(node, ast.Name):
                     self.assertIn(node.id, known, (file, node.lineno))
                 if isinstance(node, ast.Call) and isinstance(node.func, ast.Attribute):
-                    self.assertIn(node.func.attr, METHODS | own_methods(), (file, node.lineno))
+                    self.assertIn(node.func.attr, methods, (file, node.lineno))
                     if node.func.attr in METHODS:
                         self.assertEqual(node.keywords, [], (file, node.lineno))
 
