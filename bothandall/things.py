@@ -47,8 +47,8 @@ def is_stretch(size, thing):
 
 def require_things(kind, size, values):
     """Raise the errors of a kind and of a size, or BadThing with the first of some values that is no thing."""
-    require_size(kind, size)
     for value in values:
+        # This looks at the kind and the size, too, ahead of the value.
         if not is_thing(kind, size, value):
             raise BadThing(value)
 
